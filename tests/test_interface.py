@@ -1,0 +1,56 @@
+"""The interface: each name stands where the document lists it, with the arguments that it lists."""
+
+import ast
+import pathlib
+import unittest
+
+PACKAGE = pathlib.Path(__file__).resolve().parent.parent / "untoldgames"
+
+FUNCTIONS = {
+    "games": {
+        "mover": "row", "is_game": "thing", "let_words": "game row", "game_of": "rows", "behind": "game row",
+        "both_games": "one other"},
+    "solving": {
+        "winner": "game row", "moves_left": "game row", "good_words": "game row", "plan": "game side",
+        "plan_fault": "game side thing"},
+    "halls": {
+        "is_fresh": "thing", "are_games": "hall thing", "turned": "hall", "joined": "one other", "only": "hall lot",
+        "least_games": "hall"},
+}
+
+CLASSES = {
+    "halls": {"Hall": {"__init__": "self boards", "__eq__": "self other"}},
+}
+
+
+def arguments(function):
+    """The names of the arguments of a function, that all are plain ones without default values."""
+    rest = function.args
+    plain = not (rest.vararg or rest.kwarg or rest.kwonlyargs or rest.defaults or rest.posonlyargs)
+    return " ".join(one.arg for one in rest.args) if plain else None
+
+
+def defined(module, kind):
+    """What a module defines by def, or by class, by name."""
+    tree = ast.parse((PACKAGE / f"{module}.py").read_text())
+    return {node.name: node for node in tree.body if isinstance(node, kind)}
+
+
+class Interface(unittest.TestCase):
+    def test_functions(self):
+        for module, functions in FUNCTIONS.items():
+            found = defined(module, ast.FunctionDef)
+            for name, told in functions.items():
+                self.assertEqual(arguments(found[name]), told, (module, name))
+
+    def test_classes(self):
+        for module, classes in CLASSES.items():
+            found = defined(module, ast.ClassDef)
+            for name, methods in classes.items():
+                own = {node.name: node for node in found[name].body if isinstance(node, ast.FunctionDef)}
+                for method, told in methods.items():
+                    self.assertEqual(arguments(own[method]), told, (module, name, method))
+
+
+if __name__ == "__main__":
+    unittest.main()
