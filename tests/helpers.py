@@ -1,12 +1,21 @@
 """What the tests share: odd things to pass, how errors are checked, and small games and halls by chance."""
 
+import itertools
 import random
 import unittest
 
 from untoldgames import errors
-from untoldgames.halls import Hall
+from untoldgames.halls import Hall, joined
 
 LETTERS = "abcdefghijklmnopqrstuvwxyz"
+
+# Boards without names of 29 greatest pairings, and of 69, found by chance.
+SMALLER = (
+    (0, ()), (0, ("a", "a")), (1, ()), (1, ()), (1, ()), (1, ()), (1, ()), (1, ("a",)), (1, ("a",)), (1, ("a",)),
+    (1, ("a", "a", "a")))
+LARGER = (
+    (0, ()), (0, ("a",)), (0, ("b", "a")), (1, ()), (1, ("a",)), (1, ("a",)), (1, ("a",)), (1, ("b",)),
+    (1, ("b", "a")), (1, ("b", "a")), (1, ("b", "a")), (1, ("b", "a")), (1, ("b", "a")))
 
 
 def nested_list(deep):
@@ -131,3 +140,62 @@ def many_words(many):
 def fresh_hall(firsts, seconds, name="g"):
     """A hall of one name with so many boards at the first side, and then so many at the second one."""
     return Hall(((name, 0, ()),) * firsts + ((name, 1, ()),) * seconds)
+
+
+def chance_aim(chance, many, deep=4):
+    """An aim by chance, of boards' numbers below many."""
+    if deep == 1 or chance.random() < 0.25:
+        return chance.randrange(many)
+    parts = tuple(chance_aim(chance, many, deep - 1) for _ in range(chance.choice((0, 1, 2, 2, 3, 3, 4))))
+    kind = chance.choice(("all", "some", "least"))
+    if kind == "least":
+        return (kind, chance.randint(0, len(parts) + 1), parts)
+    return (kind, parts)
+
+
+def reaches(aim, won):
+    """Whether a lot reaches an aim, straight by what the document says."""
+    if isinstance(aim, int):
+        return aim in won
+    told = [reaches(part, won) for part in aim[-1]]
+    if aim[0] == "all":
+        return all(told)
+    if aim[0] == "some":
+        return any(told)
+    return sum(told) >= aim[1]
+
+
+def apart(pairing):
+    """Whether no board is in two pairs."""
+    boards = [board for pair in pairing for board in pair]
+    return len(boards) == len(set(boards))
+
+
+def all_pairings(couples):
+    """All pairings of an ascending list of pairs, straight by what the document says."""
+    found = [()]
+    for couple in couples:
+        found += [pairing + (couple,) for pairing in found if apart(pairing + (couple,))]
+    return found
+
+
+def all_greatest(couples):
+    """All greatest pairings of an ascending list of pairs, straight by what the document says."""
+    return sorted(pairing for pairing in all_pairings(couples)
+                  if not any(apart(pairing + (couple,)) for couple in couples if couple not in pairing))
+
+
+def outcomes(pairing):
+    """All outcomes of a pairing."""
+    return [tuple(sorted(outcome)) for outcome in itertools.product(*pairing)]
+
+
+def many_pairings(many):
+    """A hall of at most 24 boards that has 2000, or 2001, greatest pairings."""
+    if many == 2000:
+        # 5 * 4 for each of two names, and 5 for a third one.
+        boards = fresh_hall(2, 5, "g").boards + fresh_hall(2, 5, "h").boards + fresh_hall(1, 5, "i").boards
+    else:
+        # 29 for the one name, 69 for the other one.
+        boards = tuple(("g", *board) for board in SMALLER) + tuple(("h", *board) for board in LARGER)
+    return joined(Hall(boards[:12]), Hall(boards[12:]))

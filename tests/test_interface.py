@@ -16,10 +16,21 @@ FUNCTIONS = {
     "halls": {
         "is_fresh": "thing", "are_games": "hall thing", "turned": "hall", "joined": "one other", "only": "hall lot",
         "least_games": "hall"},
+    "aims": {
+        "is_aim": "hall thing", "reached": "hall aim won", "same_aims": "hall aim other", "dual": "hall aim",
+        "moved": "aim by", "least_won": "hall aim"},
+    "pairs": {"pairs": "hall", "pairings": "hall", "is_pairing": "hall thing"},
+    "verdicts": {
+        "sure": "hall aim", "spoilers": "hall aim", "is_sure": "hall aim thing", "are_spoilers": "hall aim thing"},
 }
 
 CLASSES = {
     "halls": {"Hall": {"__init__": "self boards", "__eq__": "self other"}},
+    "sittings": {
+        "Sitting": {
+            "__init__": "self hall games", "rows": "self", "turns": "self", "say": "self board word",
+            "answer": "self board word", "refused": "self", "won": "self", "log": "self", "back": "self",
+            "depth": "self", "copy": "self", "trying": "self action"}},
 }
 
 

@@ -19,9 +19,7 @@ def is_game(thing):
         return False
     if not all([is_row(row) for row in thing]) or not is_ascending(thing):
         return False
-    # As the rows ascend, () can only be the first one.
-    if thing[0] != ():
-        return False
+    # The shortest row must be (), as the one without its last word is not there for any other one.
     rows = {row: True for row in thing}
     return all([row[:-1] in rows for row in thing])
 
