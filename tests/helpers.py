@@ -199,3 +199,30 @@ def many_pairings(many):
         # 29 for the one name, 69 for the other one.
         boards = tuple(("g", *board) for board in SMALLER) + tuple(("h", *board) for board in LARGER)
     return joined(Hall(boards[:12]), Hall(boards[12:]))
+
+
+def chance_games(chance, hall, letters="ab", longest=6, likely=0.7):
+    """Games for a hall by chance."""
+    games = {}
+    for name in hall.names:
+        rows = list(chance_game(chance, letters, longest, likely))
+        for board in hall.boards:
+            if board[0] == name:
+                rows += [board[2][:length] for length in range(len(board[2]) + 1)]
+        games[name] = tuple(sorted(set(rows)))
+    return games
+
+
+def chance_masters(games, hall, seed, waiting=0.3):
+    """Masters by chance, who give the same for the same board and row, and wait now and then."""
+    def masters(board, row):
+        chance = random.Random(f"{seed} {board} {row}")
+        words = words_at(games[hall.boards[board][0]], row)
+        return None if not words or chance.random() < waiting else chance.choice(words)
+
+    return masters
+
+
+def words_at(game, row):
+    """The words that are let at a row of a game."""
+    return [longer[-1] for longer in game if len(longer) == len(row) + 1 and longer[:-1] == row]

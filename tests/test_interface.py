@@ -22,6 +22,12 @@ FUNCTIONS = {
     "pairs": {"pairs": "hall", "pairings": "hall", "is_pairing": "hall thing"},
     "verdicts": {
         "sure": "hall aim", "spoilers": "hall aim", "is_sure": "hall aim thing", "are_spoilers": "hall aim thing"},
+    "logs": {"log_rows": "hall log", "log_fault": "hall games thing", "heard_games": "hall log"},
+    "playing": {"led": "hall games guest masters", "copied": "hall pairing rows"},
+    "foes": {"led_by_foe": "hall aim guest"},
+    "meeting": {
+        "two_sided": "hall", "met_spoiler": "hall aim", "is_met_spoiler": "hall aim thing", "evened": "hall rows",
+        "met_games": "hall choice"},
 }
 
 CLASSES = {
@@ -31,6 +37,11 @@ CLASSES = {
             "__init__": "self hall games", "rows": "self", "turns": "self", "say": "self board word",
             "answer": "self board word", "refused": "self", "won": "self", "log": "self", "back": "self",
             "depth": "self", "copy": "self", "trying": "self action"}},
+    "foes": {
+        "Foe": {
+            "__init__": "self hall aim", "rows": "self", "turns": "self", "refused": "self", "log": "self",
+            "won": "self", "say": "self board word", "wait": "self", "closed": "self", "games": "self",
+            "back": "self"}},
 }
 
 

@@ -1,5 +1,7 @@
 """What several files ask of a thing that was passed, whatever it is: each answers with a flag."""
 
+MOST_WORDS = 60
+
 
 def is_integer(thing):
     """Tells whether a thing is an integer."""
@@ -41,7 +43,7 @@ def is_words(thing, most):
 
 def is_row(thing):
     """Tells whether a thing is a row."""
-    return is_words(thing, 60)
+    return is_words(thing, MOST_WORDS)
 
 
 def is_ascending(things):

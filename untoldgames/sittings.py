@@ -1,9 +1,9 @@
 """Sittings: a hall that is led on, move by move, by games that the sitting alone knows."""
 
 from untoldgames.errors import NoBoard, NoGames, NothingDone, NotLet, NotTurn, NoWord
-from untoldgames.games import mover
 from untoldgames.halls import are_games
 from untoldgames.kinds import is_within, is_word
+from untoldgames.played import begun_rows, is_turn, known_rows, turns_at, won_at
 
 
 class Sitting:
@@ -14,8 +14,8 @@ class Sitting:
             raise NoGames()
         self._hall = hall
         self._games = {name: games[name] for name in hall.names}
-        self._known = {name: {row: True for row in games[name]} for name in hall.names}
-        self._rows = [begun for _, _, begun in hall.boards]
+        self._known = known_rows(games)
+        self._rows = begun_rows(hall)
         self._log = []
         # The refused triples as often as they were refused, so that each one can be taken back.
         self._refused = []
@@ -26,7 +26,7 @@ class Sitting:
 
     def turns(self):
         """The tuple of flags that are True where the guest is to move."""
-        return tuple([self._is_turn(board) for board in range(len(self._rows))])
+        return turns_at(self._hall, self._rows)
 
     def say(self, board, word):
         """The guest tries a word; the flag tells whether it is let."""
@@ -53,7 +53,7 @@ class Sitting:
 
     def won(self):
         """The lot of the boards that are won if the hall closes now."""
-        return tuple([board for board in range(len(self._rows)) if not self._is_turn(board)])
+        return won_at(self._hall, self._rows)
 
     def log(self):
         """The list of all that was done and is not taken back."""
@@ -89,10 +89,6 @@ class Sitting:
         finally:
             self._rows, self._log, self._refused = rows, log, refused
 
-    def _is_turn(self, board):
-        """Tells whether the guest is to move on a board."""
-        return mover(self._rows[board]) == self._hall.boards[board][1]
-
     def _is_let(self, board, word):
         """Tells whether a word is let on a board now."""
         return self._rows[board] + (word,) in self._known[self._hall.boards[board][0]]
@@ -103,5 +99,5 @@ class Sitting:
             raise NoBoard()
         if not is_word(word):
             raise NoWord()
-        if self._is_turn(board) != is_guest:
+        if is_turn(self._hall.boards[board], self._rows[board]) != is_guest:
             raise NotTurn()
