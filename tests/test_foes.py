@@ -12,6 +12,7 @@ from untoldgames.foes import Foe, led_by_foe
 from untoldgames.halls import Hall, are_games, joined, least_games
 from untoldgames.logs import heard_games, log_fault, log_rows
 from untoldgames.pairs import pairings, pairs
+from untoldgames.playing import copied
 from untoldgames.sittings import Sitting
 from untoldgames.verdicts import sure
 
@@ -307,6 +308,24 @@ class Bounds(FoeCase):
             aim = missed_aim(chance, hall)
             for kind in kinds:
                 self.play(chance, hall, aim, kind)
+
+    def test_a_guest_who_takes_to_other_pairs_later(self):
+        # What spoils the pairing of 0 and 2 does not spoil that of 1 and 2, which is joined in later on.
+        hall = Hall((("g", 0, ()), ("g", 0, ()), ("g", 1, ()), ("h", 1, ()), ("h", 0, ()), ("i", 1, ()), ("i", 0, ())))
+        aim = ("some", (("all", (3, 5)), ("all", (4, 5, ("some", (1, 2))))))
+        for late in range(6):
+            for pairing in pairings(hall):
+                for first in (pairing[1:], pairing[:1], ()):
+                    foe, waits = Foe(hall, aim), 0
+                    while not foe.closed():
+                        move = copied(hall, pairing if waits >= late else first, foe.rows())
+                        if move is None:
+                            foe.wait()
+                            waits += 1
+                            self.assertLessEqual(waits, 4 * 7 + 20)
+                        else:
+                            self.assertIs(foe.say(*move), True)
+                    self.check_closed(hall, aim, foe)
 
     def test_large_halls(self):
         chance = random.Random(92)

@@ -28,6 +28,13 @@ FUNCTIONS = {
     "meeting": {
         "two_sided": "hall", "met_spoiler": "hall aim", "is_met_spoiler": "hall aim thing", "evened": "hall rows",
         "met_games": "hall choice"},
+    "sorts": {"mixed": "hall aim sorts", "is_mixed": "hall aim sorts thing", "least_told": "hall aim"},
+    "points": {
+        "most_points": "hall points", "met_points": "hall points", "stock_points": "stocks", "stock_met": "stocks"},
+    "following": {
+        "following": "one aim other goal", "alike": "one aim other goal", "is_following": "one aim other goal thing",
+        "chained": "one other third first second"},
+    "house": {"enough": "hall aim", "bars": "hall aim", "turns": "hall aim", "cheapest": "hall aim prices"},
 }
 
 CLASSES = {

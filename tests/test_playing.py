@@ -201,6 +201,13 @@ class Led(Case):
             if not isinstance(thing, str):
                 self.raises("NoMove", {}, led, H, games, lambda rows, refused: (0, thing), unheard)
 
+    def test_numbers_do_not_count_from_the_end(self):
+        hall = fresh_hall(1, 2)
+        for board in (-1, -2, -3, 3):
+            self.raises("NoMove", {}, led, hall, {"g": GAME}, lambda rows, refused: (board, "c"), unheard)
+            turned_hall = fresh_hall(3, 0)
+            self.raises("NoMove", {}, led, turned_hall, {"g": GAME}, lambda rows, refused: (board, "c"), unheard)
+
     def test_no_move_out_of_turn(self):
         self.raises("NoMove", {}, led, H, {"g": GAME}, says((0, "a"), (0, "b")), unheard)
         self.raises("NoMove", {}, led, H, {"g": GAME}, says((2, "a")), unheard)

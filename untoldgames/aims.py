@@ -165,13 +165,27 @@ def reached_blocks(aim, many):
     return [aim_cases(aim, block_cases(switches, block, many), whole) for block in range(blocks_of(switches))]
 
 
-def minimal_cases(flags, many):
-    """Of flags for all cases of many switches, once True with more of them on: the True ones that need all theirs."""
-    found = []
-    for case, flag in enumerate(flags):
-        if flag and not any([case >> at & 1 and flags[case ^ (1 << at)] for at in range(many)]):
-            found.append(case)
-    return found
+def reached_flags(aim, many):
+    """For each lot of many boards a flag that tells whether it reaches an aim, by the bits of its case."""
+    flags = []
+    for cases in reached_blocks(aim, many):
+        flags.extend([cases >> case & 1 == 1 for case in range(1 << min(many, BLOCK))])
+    return flags
+
+
+def has_less(flags, case, many):
+    """Tells whether of the flags for the cases of many switches one is True for a case with one of them less on."""
+    return any([case >> at & 1 == 1 and flags[case ^ (1 << at)] for at in range(many)])
+
+
+def minimal_lots(flags, many):
+    """The ascending list of the lots, told by flags for all cases of many switches, none of which can be left out.
+
+    The flags must be such that a case is True if one is with less of the switches on.
+    """
+    switches = board_switches(many)
+    found = [case for case, flag in enumerate(flags) if flag and not has_less(flags, case, many)]
+    return sorted([case_lot(switches, case) for case in found])
 
 
 def is_reached(aim, won, many):
@@ -207,6 +221,13 @@ def dual(hall, aim):
     return dual_of(aim)
 
 
+def aided_aim(aim, lot):
+    """What is surely an aim, as it is where the boards of a lot are won anyway."""
+    if is_integer(aim):
+        return ("all", ()) if aim in lot else aim
+    return aim[:-1] + (tuple([aided_aim(part, lot) for part in aim[-1]]),)
+
+
 def highest_number(aim):
     """The highest board's number in an aim, or -1 if there is none."""
     if is_integer(aim):
@@ -235,11 +256,7 @@ def least_won(hall, aim):
     check_aim(hall, aim)
     check_few_boards(hall)
     many = len(hall.boards)
-    flags = []
-    for cases in reached_blocks(aim, many):
-        flags.extend([cases >> case & 1 == 1 for case in range(1 << min(many, BLOCK))])
-    switches = board_switches(many)
-    return sorted([case_lot(switches, case) for case in minimal_cases(flags, many)])
+    return minimal_lots(reached_flags(aim, many), many)
 
 
 def same_aims(hall, aim, other):

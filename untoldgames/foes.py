@@ -46,9 +46,12 @@ class Foe:
 
     What a guest says is let only where it is known that it must be, and what the foe answers is new everywhere. So
     two boards that are no pair by their rows never become one again, and who copies from one of several boards gives
-    up the others. A board in several pairs, or in none, is answered whenever it would be won. Where only lone pairs
-    are left to win, an outcome is missed that spoils a greatest pairing of all of them: what would be won beyond it
-    is answered. The outcome is kept as long as it can be, as each change of it may cost an answer on each pair.
+    up the others. Nothing is answered if the aim is missed as it stands. Otherwise boards that would be won and are
+    in several pairs, or in none, are answered first. Where only lone pairs are left to win, an outcome is pursued that
+    spoils a greatest pairing of all of them: what would be won beyond it is answered. The pairing is kept as long as
+    it can be, as each change of it may cost an answer on each pair. So there are fewer than 4 waitings for each board
+    and 20 more: at most 3 moves lead to a lone pair, one is left to each other board, and at most 13 outcomes are
+    pursued one behind another.
     """
 
     def __init__(self, hall, aim):

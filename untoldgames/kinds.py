@@ -56,3 +56,8 @@ def is_lot(thing, many):
     if not isinstance(thing, tuple) or not all([is_within(number, 0, many - 1) for number in thing]):
         return False
     return is_ascending(thing)
+
+
+def are_numbers(thing, many, most):
+    """Tells whether a thing is a tuple of so many integers from 0 to most."""
+    return isinstance(thing, tuple) and len(thing) == many and all([is_within(number, 0, most) for number in thing])

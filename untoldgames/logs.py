@@ -9,7 +9,7 @@ from untoldgames.played import begun_rows, is_turn, known_rows
 
 def has_item_form(hall, thing):
     """Tells whether a thing has the form of an item of a log of a hall."""
-    if not isinstance(thing, tuple) or len(thing) not in (3, 4) or not isinstance(thing[0], str):
+    if not isinstance(thing, tuple) or len(thing) not in (3, 4):
         return False
     if len(thing) == 3 and thing[0] != "answered":
         return False

@@ -1,6 +1,6 @@
 """Pairs: boards of which one can be won by copying, and how they can be taken together."""
 
-from untoldgames.errors import TooMany
+from untoldgames.errors import NoPairing, TooMany
 from untoldgames.kinds import is_ascending, is_integer
 
 MOST_BOARDS = 24
@@ -52,6 +52,21 @@ def is_pairing_of(couples, thing):
 def is_pairing(hall, thing):
     """Tells whether a thing is a pairing of a hall."""
     return is_pairing_of(pairs(hall), thing)
+
+
+def check_pairing(hall, pairing):
+    """Raises NoPairing for what is no pairing of a hall."""
+    if not is_pairing(hall, pairing):
+        raise NoPairing()
+
+
+def partners_of(pairing):
+    """A dict from each board of a pairing to the other one of its pair."""
+    partners = {}
+    for one, other in pairing:
+        partners[one] = other
+        partners[other] = one
+    return partners
 
 
 def clashes_of(couples):

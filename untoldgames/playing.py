@@ -1,8 +1,8 @@
 """Playing: guests and masters that are led against one another, and the copying of words."""
 
-from untoldgames.errors import NoAnswer, NoMove, NoPairing, TooMany
+from untoldgames.errors import NoAnswer, NoMove, TooMany
 from untoldgames.kinds import is_within, is_word
-from untoldgames.pairs import is_pairing
+from untoldgames.pairs import check_pairing, partners_of
 from untoldgames.played import check_rows, is_turn
 from untoldgames.sittings import Sitting
 
@@ -44,7 +44,7 @@ def masters_answered(hall, games, sitting, masters):
         word = masters(board, row)
         if word is None:
             continue
-        if not is_word(word) or row + (word,) not in games[hall.boards[board][0]]:
+        if row + (word,) not in games[hall.boards[board][0]]:
             raise NoAnswer()
         sitting.answer(board, word)
         answered = True
@@ -62,19 +62,9 @@ def led(hall, games, guest, masters):
     return (sitting.won(), sitting.log())
 
 
-def partners_of(pairing):
-    """A dict from each board of a pairing to the other one of its pair."""
-    partners = {}
-    for one, other in pairing:
-        partners[one] = other
-        partners[other] = one
-    return partners
-
-
 def copied(hall, pairing, rows):
     """The move by which copying between the boards of a pairing goes on, or None."""
-    if not is_pairing(hall, pairing):
-        raise NoPairing()
+    check_pairing(hall, pairing)
     check_rows(hall, rows)
     partners = partners_of(pairing)
     for board in sorted(partners):

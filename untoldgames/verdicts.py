@@ -5,22 +5,31 @@ from untoldgames.kinds import is_lot
 from untoldgames.pairs import check_boards, is_pairing, is_pairing_of, pairings, pairs
 
 
+def pair_switches(pairing):
+    """For each pair of a pairing a switch between its boards: the cases are the outcomes."""
+    return [((one,), (other,)) for one, other in pairing]
+
+
 def spoiler(aim, pairing, many):
     """An outcome of a pairing of many boards by which what is surely an aim is not reached, or None."""
-    switches = [((one,), (other,)) for one, other in pairing]
+    switches = pair_switches(pairing)
     case = missed_case(aim, switches, many)
     return None if case is None else case_lot(switches, case)
+
+
+def sure_pairing(hall, aim):
+    """A pairing such that what is surely an aim, however deep, is reached by each of its outcomes, or None."""
+    # More boards won never spoil an aim, so that the greatest pairings are enough.
+    for pairing in pairings(hall):
+        if spoiler(aim, pairing, len(hall.boards)) is None:
+            return pairing
+    return None
 
 
 def sure(hall, aim):
     """A pairing such that an aim is reached by each of its outcomes, or None."""
     check_aim(hall, aim)
-    many = len(hall.boards)
-    # More boards won never spoil an aim, so that the greatest pairings are enough.
-    for pairing in pairings(hall):
-        if spoiler(aim, pairing, many) is None:
-            return pairing
-    return None
+    return sure_pairing(hall, aim)
 
 
 def is_sure(hall, aim, thing):
