@@ -49,9 +49,13 @@ class Foe:
     up the others. Nothing is answered if the aim is missed as it stands. Otherwise boards that would be won and are
     in several pairs, or in none, are answered first. Where only lone pairs are left to win, an outcome is pursued that
     spoils a greatest pairing of all of them: what would be won beyond it is answered. The pairing is kept as long as
-    it can be, as each change of it may cost an answer on each pair. So there are fewer than 4 waitings for each board
-    and 20 more: at most 3 moves lead to a lone pair, one is left to each other board, and at most 13 outcomes are
-    pursued one behind another.
+    it can be, as each change of it may cost an answer on each pair.
+
+    That ends in time. Let t pairs be lone at first, h later on, and r boards never be in one. Each answering but the
+    first follows a move of the guest other than copying in a lone pair, of which there are at most 3h + 2t + r; or it
+    is on lone pairs, which are answered at most (h + 1)(t + h / 2) times, as there are at most h + 1 pursuits. With at
+    most 24 boards that makes no more than 4 waitings for each and 20 more, the last one counted, and no row comes to
+    60 words.
     """
 
     def __init__(self, hall, aim):
