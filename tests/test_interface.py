@@ -35,6 +35,12 @@ FUNCTIONS = {
         "following": "one aim other goal", "alike": "one aim other goal", "is_following": "one aim other goal thing",
         "chained": "one other third first second"},
     "house": {"enough": "hall aim", "bars": "hall aim", "turns": "hall aim", "cheapest": "hall aim prices"},
+    "strength": {
+        "strongest": "hall", "handicaps": "hall aim", "strongest_met": "hall", "gives": "hall aim other",
+        "is_handicap": "hall aim thing", "cheapest_handicap": "hall aim prices"},
+    "knowing": {
+        "told_won": "hall games", "told_move": "hall games rows", "told_answer": "hall games board row"},
+    "news": {"news": "hall log name row word", "certain": "hall log"},
 }
 
 CLASSES = {
@@ -49,6 +55,11 @@ CLASSES = {
             "__init__": "self hall aim", "rows": "self", "turns": "self", "refused": "self", "log": "self",
             "won": "self", "say": "self board word", "wait": "self", "closed": "self", "games": "self",
             "back": "self"}},
+    "rooms": {
+        "Room": {
+            "__init__": "self", "put": "self name side", "shut": "self board", "exchange": "self board",
+            "play": "self board word", "numbers": "self", "hall": "self", "pairs": "self", "sure": "self aim",
+            "back": "self", "depth": "self", "copy": "self", "trying": "self action"}},
 }
 
 

@@ -228,25 +228,30 @@ def aided_aim(aim, lot):
     return aim[:-1] + (tuple([aided_aim(part, lot) for part in aim[-1]]),)
 
 
-def highest_number(aim):
-    """The highest board's number in an aim, or -1 if there is none."""
+def numbers_in(aim):
+    """The list of the boards' numbers in what is surely an aim, each as often as it stands."""
     if is_integer(aim):
-        return aim
-    return max([highest_number(part) for part in aim[-1]], default=-1)
+        return [aim]
+    return [number for part in aim[-1] for number in numbers_in(part)]
+
+
+def renumbered(aim, numbers):
+    """What is surely an aim, with the number that a dict tells in the place of each board's number."""
+    if is_integer(aim):
+        return numbers[aim]
+    return aim[:-1] + (tuple([renumbered(part, numbers) for part in aim[-1]]),)
 
 
 def moved_aim(aim, by):
     """What is surely an aim, with all boards' numbers so many greater."""
-    if is_integer(aim):
-        return aim + by
-    return aim[:-1] + (tuple([moved_aim(part, by) for part in aim[-1]]),)
+    return renumbered(aim, {number: number + by for number in numbers_in(aim)})
 
 
 def moved(aim, by):
     """The aim, of any hall, with all boards' numbers so many greater."""
     if not is_any_aim(aim):
         raise NoAim()
-    if not is_within(by, 0, MOST_MOVED) or highest_number(aim) + by > MOST_NUMBER:
+    if not is_within(by, 0, MOST_MOVED) or max(numbers_in(aim), default=-1) + by > MOST_NUMBER:
         raise NoNumber()
     return moved_aim(aim, by)
 

@@ -1,6 +1,6 @@
 """Halls: the boards at which a guest sits, and the games that can be played there."""
 
-from untoldgames.errors import BadHall, NoLot
+from untoldgames.errors import BadHall, NoGames, NoLot
 from untoldgames.games import beginnings, is_game
 from untoldgames.kinds import is_lot, is_name, is_side, is_words
 
@@ -74,6 +74,12 @@ def are_games(hall, thing):
     if not all([name in thing and is_game(thing[name]) for name in hall.names]):
         return False
     return all([begun in thing[name] for name, _, begun in hall.boards])
+
+
+def check_games(hall, games):
+    """Raises NoGames for what is no games for a hall."""
+    if not are_games(hall, games):
+        raise NoGames()
 
 
 def least_games(hall):

@@ -12,14 +12,15 @@ MOST_PAIRS = 12
 MOST_TURNED = 10
 
 
-def sure_cases(couples, flags):
+def sure_cases(couples, flags, aid):
     """A dict that has as keys the boards, as bits, of the pairings of some pairs by each of whose outcomes all is well.
 
-    flags tells for the bits of each lot whether it is. Pairings are left out that have such a lesser one in them.
+    flags tells for the bits of each lot whether it is; aid has the bits of boards in no pair that are won anyway.
+    Pairings are left out that have such a lesser one in them.
     """
     found = {}
     # What waits is a pairing: the number of the first pair that may be added, the bits of its boards, its outcomes.
-    waiting = [(0, 0, [0])]
+    waiting = [(0, 0, [aid])]
     while waiting:
         first, taken, outcomes = waiting.pop()
         if all([flags[won] for won in outcomes]):
@@ -38,20 +39,30 @@ def enough(hall, aim):
     check_aim(hall, aim)
     check_few_boards(hall)
     many = len(hall.boards)
-    found = sure_cases(pairs(hall), reached_flags(aim, many))
+    found = sure_cases(pairs(hall), reached_flags(aim, many), 0)
     flags = []
     for case in range(1 << many):
         flags.append(case in found or has_less(flags, case, many))
     return minimal_lots(flags, many)
 
 
+def check_prices(hall, prices):
+    """Raises NoPrices for what is no prices for the boards of a hall."""
+    if not are_numbers(prices, len(hall.boards), MOST_PRICE):
+        raise NoPrices()
+
+
+def cheapest_of(lots, prices):
+    """The least sum of prices of one of some lots, and the least such lot; None if there is none."""
+    priced = [(sum([prices[board] for board in lot]), lot) for lot in lots]
+    return min(priced) if priced else None
+
+
 def cheapest(hall, aim, prices):
     """The least sum of prices of a lot that is enough, and the least such lot; None if there is none."""
     check_aim(hall, aim)
-    if not are_numbers(prices, len(hall.boards), MOST_PRICE):
-        raise NoPrices()
-    priced = [(sum([prices[board] for board in lot]), lot) for lot in enough(hall, aim)]
-    return min(priced) if priced else None
+    check_prices(hall, prices)
+    return cheapest_of(enough(hall, aim), prices)
 
 
 def is_sure_of(hall, aim, couples):
@@ -92,5 +103,5 @@ def turns(hall, aim):
     flags = []
     for case in range(1 << many):
         # Where a lesser part is such a lot the case cannot be one; what counts is only that it has one in it.
-        flags.append(has_less(flags, case, many) or len(sure_cases(pairs(exchanged(hall, case)), reaching)) > 0)
+        flags.append(has_less(flags, case, many) or len(sure_cases(pairs(exchanged(hall, case)), reaching, 0)) > 0)
     return minimal_lots(flags, many)

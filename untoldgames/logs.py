@@ -1,8 +1,8 @@
 """Logs: lists of what was said and answered, and what games can be heard by them."""
 
-from untoldgames.errors import NoGames, NoLog, TooMany
+from untoldgames.errors import NoLog, TooMany
 from untoldgames.games import MOST_ROWS, beginnings
-from untoldgames.halls import are_games
+from untoldgames.halls import check_games
 from untoldgames.kinds import MOST_WORDS, is_within, is_word
 from untoldgames.played import begun_rows, is_turn, known_rows
 
@@ -77,8 +77,7 @@ def first_wrong(hall, games, log, tried):
 
 def log_fault(hall, games, thing):
     """What is wrong with a log of a hall by some games, or None."""
-    if not are_games(hall, games):
-        raise NoGames()
+    check_games(hall, games)
     told = tried_rows(hall, thing)
     if told is None:
         return ("form",)
@@ -87,13 +86,19 @@ def log_fault(hall, games, thing):
     return None if at is None else ("let", at)
 
 
+def heard_rows(hall, rows):
+    """What was let by a log behind which these rows stand: for each name the ascending tuple of rows, however many."""
+    heard = {}
+    for name in hall.names:
+        # Rows only grow, so the last ones begin with all that was let ahead of them.
+        heard[name] = beginnings([row for board, row in zip(hall.boards, rows) if board[0] == name])
+    return heard
+
+
 def heard_games(hall, log):
     """The games with the fewest rows by which all is let that a log lets, or None if by them more is."""
     tried, rows = checked_log(hall, log)
-    games = {}
-    for name in hall.names:
-        # Rows only grow, so the last ones begin with all that was let ahead of them.
-        games[name] = beginnings([row for board, row in zip(hall.boards, rows) if board[0] == name])
-        if len(games[name]) > MOST_ROWS:
-            raise TooMany(MOST_ROWS)
+    games = heard_rows(hall, rows)
+    if any([len(game) > MOST_ROWS for game in games.values()]):
+        raise TooMany(MOST_ROWS)
     return games if first_wrong(hall, games, log, tried) is None else None

@@ -18,13 +18,17 @@ def are_pair(one, other):
     return longer[2][:-1] == shorter[2] and len(shorter[2]) % 2 != longer[1]
 
 
-def pairs(hall):
-    """The ascending list of all pairs of boards of a hall."""
-    boards = hall.boards
+def pairs_of(boards):
+    """The ascending list of all pairs of some boards, perhaps none."""
     found = []
     for one in range(len(boards)):
         found.extend([(one, other) for other in range(one + 1, len(boards)) if are_pair(boards[one], boards[other])])
     return found
+
+
+def pairs(hall):
+    """The ascending list of all pairs of boards of a hall."""
+    return pairs_of(hall.boards)
 
 
 def are_apart(couples):

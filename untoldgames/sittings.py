@@ -1,7 +1,7 @@
 """Sittings: a hall that is led on, move by move, by games that the sitting alone knows."""
 
-from untoldgames.errors import NoBoard, NoGames, NothingDone, NotLet, NotTurn, NoWord
-from untoldgames.halls import are_games
+from untoldgames.errors import NoBoard, NothingDone, NotLet, NotTurn, NoWord
+from untoldgames.halls import check_games
 from untoldgames.kinds import is_within, is_word
 from untoldgames.played import begun_rows, is_turn, known_rows, turns_at, won_at
 
@@ -10,8 +10,7 @@ class Sitting:
     """What is played at the boards of a hall, what was refused, and what can be taken back."""
 
     def __init__(self, hall, games):
-        if not are_games(hall, games):
-            raise NoGames()
+        check_games(hall, games)
         self._hall = hall
         self._games = {name: games[name] for name in hall.names}
         self._known = known_rows(games)

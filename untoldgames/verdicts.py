@@ -17,13 +17,18 @@ def spoiler(aim, pairing, many):
     return None if case is None else case_lot(switches, case)
 
 
+def sure_among(greatest, aim, many):
+    """The first of some pairings of many boards by each of whose outcomes what is surely an aim is reached, or None."""
+    for pairing in greatest:
+        if spoiler(aim, pairing, many) is None:
+            return pairing
+    return None
+
+
 def sure_pairing(hall, aim):
     """A pairing such that what is surely an aim, however deep, is reached by each of its outcomes, or None."""
     # More boards won never spoil an aim, so that the greatest pairings are enough.
-    for pairing in pairings(hall):
-        if spoiler(aim, pairing, len(hall.boards)) is None:
-            return pairing
-    return None
+    return sure_among(pairings(hall), aim, len(hall.boards))
 
 
 def sure(hall, aim):
