@@ -5,9 +5,16 @@ import random
 import unittest
 
 from untoldgames import errors
+from untoldgames.desk import Desk
+from untoldgames.foes import Foe
 from untoldgames.halls import Hall, joined
+from untoldgames.rooms import Room
+from untoldgames.sittings import Sitting
 
 LETTERS = "abcdefghijklmnopqrstuvwxyz"
+
+# What is wrong as one of several prices.
+NO_PRICES = (-1, 10 ** 6 + 1, 10 ** 59, True, False, None, "1", (1,), [1], b"1", {})
 
 # Boards without names of 29 greatest pairings, and of 69, found by chance.
 SMALLER = (
@@ -50,7 +57,8 @@ def odd_things():
         nested_list(40), nested_tuple(40), nested_tuple(40, {}), (0,) * 10000, ("a",) * 10000, [()] * 10000,
         ((),) * 5000, range(2), slice(1), iter([]), iter({}), {}.keys(), {1: 2}.items(), zip(), (x for x in ()),
         int, str, tuple, dict, len, odd_things, lambda *rest: (), "".join, random, property(), ValueError("a"), KeyError,
-        errors.HallError, errors.NoRow(), errors.TooMany(3), Hall((("g", 0, ()),)),
+        errors.HallError, errors.NoRow(), errors.TooMany(3), Hall((("g", 0, ()),)), Hall, Room, Room(), Desk(),
+        Sitting(Hall((("g", 0, ()),)), {"g": ((),)}), Foe(Hall((("g", 0, ()),)), 0), Room().put,
     ]
 
 
@@ -183,6 +191,20 @@ def all_greatest(couples):
     """All greatest pairings of an ascending list of pairs, straight by what the document says."""
     return sorted(pairing for pairing in all_pairings(couples)
                   if not any(apart(pairing + (couple,)) for couple in couples if couple not in pairing))
+
+
+def lots(many):
+    """All lots of numbers below many, those of fewer ones first."""
+    return [lot for size in range(many + 1) for lot in itertools.combinations(range(many), size)]
+
+
+def least_lots(many, is_one):
+    """The ascending list of the lots for which is_one holds, and for no lesser part of them."""
+    found = []
+    for lot in lots(many):
+        if not any(set(less) <= set(lot) for less in found) and is_one(lot):
+            found.append(lot)
+    return sorted(found)
 
 
 def outcomes(pairing):

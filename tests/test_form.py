@@ -235,7 +235,9 @@ class Form(unittest.TestCase):
             above = node.above
             if isinstance(above, ast.Tuple):
                 above = above.above
-            if isinstance(above, ast.ClassDef) or isinstance(above, ast.Attribute) and above.attr == "__init__":
+            if isinstance(above, ast.Attribute) and above.attr == "__init__":
+                continue
+            if isinstance(above, (ast.ClassDef, ast.ExceptHandler)):
                 continue
             if isinstance(above, ast.keyword):
                 self.assertIn(node.id, ("len", "int", "str", "abs", "sum", "min", "max", "tuple"), place)

@@ -1,10 +1,10 @@
 """14.1 and 14.2: boards that are enough, pairs that are barred, seats that are exchanged."""
 
-import itertools
 import random
 import unittest
 
-from tests.helpers import Case, all_pairings, chance_aim, chance_hall, fresh_hall, outcomes, reaches, same
+from tests.helpers import (
+    NO_PRICES, Case, all_pairings, chance_aim, chance_hall, fresh_hall, least_lots, lots, outcomes, reaches, same)
 from untoldgames.halls import Hall, joined
 from untoldgames.house import bars, cheapest, enough, turns
 from untoldgames.pairs import pairs
@@ -16,28 +16,12 @@ NEVER = ("some", ())
 ALWAYS = ("all", ())
 ROWS = ((), ("a",), ("b",), ("a", "a"), ("a", "b"))
 THIRTEEN = joined(fresh_hall(6, 6), fresh_hall(1, 0))
-# What is wrong as one of three prices.
-NO_PRICES = (-1, 10 ** 6 + 1, 10 ** 59, True, False, None, "1", (1,), [1], b"1", {})
 
 
 def sure_pairings(hall, aim):
     """All pairings that are sure of an aim, straight by what the document says."""
     return [pairing for pairing in all_pairings(pairs(hall))
             if all(reaches(aim, outcome) for outcome in outcomes(pairing))]
-
-
-def lots(many):
-    """All lots of numbers below many, those of fewer ones first."""
-    return [lot for size in range(many + 1) for lot in itertools.combinations(range(many), size)]
-
-
-def least_lots(many, is_one):
-    """The ascending list of the lots for which is_one holds, and for no lesser part of them."""
-    found = []
-    for lot in lots(many):
-        if not any(set(less) <= set(lot) for less in found) and is_one(lot):
-            found.append(lot)
-    return sorted(found)
 
 
 def boards_of(pairing):

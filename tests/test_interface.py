@@ -41,6 +41,12 @@ FUNCTIONS = {
     "knowing": {
         "told_won": "hall games", "told_move": "hall games rows", "told_answer": "hall games board row"},
     "news": {"news": "hall log name row word", "certain": "hall log"},
+    "relays": {
+        "is_relay": "hall thing", "is_sure_relayed": "hall aim relay thing", "hand_time": "hall relay one other",
+        "hand_way": "hall relay one other", "sure_relayed": "hall aim relay", "standing": "hall relay",
+        "least_lines": "hall aim relay", "slow_boards": "hall aim relay", "delay": "hall aim relay"},
+    "texts": {"hall_text": "hall", "games_text": "games", "log_text": "log", "aim_text": "aim"},
+    "reading": {"read_hall": "text", "read_games": "text", "read_log": "text", "read_aim": "text"},
 }
 
 CLASSES = {
@@ -60,6 +66,7 @@ CLASSES = {
             "__init__": "self", "put": "self name side", "shut": "self board", "exchange": "self board",
             "play": "self board word", "numbers": "self", "hall": "self", "pairs": "self", "sure": "self aim",
             "back": "self", "depth": "self", "copy": "self", "trying": "self action"}},
+    "desk": {"Desk": {"__init__": "self", "tell": "self line", "undoable": "self"}},
 }
 
 

@@ -1,12 +1,11 @@
 """18.1 and 18.2: the strongest aims, and handicaps."""
 
-import itertools
 import random
 import unittest
 
 from tests.helpers import (
-    Case, all_greatest, all_pairings, chance_aim, chance_hall, fresh_hall, many_pairings, odd_things, outcomes, reaches,
-    same)
+    NO_PRICES, Case, all_greatest, all_pairings, chance_aim, chance_hall, fresh_hall, lots, many_pairings, odd_things,
+    outcomes, reaches, same)
 from untoldgames.halls import Hall, joined
 from untoldgames.meeting import met_spoiler
 from untoldgames.pairs import pairings, pairs
@@ -20,13 +19,6 @@ ALWAYS = ("all", ())
 ROWS = ((), ("a",), ("b",), ("a", "a"), ("a", "b"))
 ELEVEN = fresh_hall(5, 6)
 THIRTEEN = joined(fresh_hall(6, 6), fresh_hall(1, 0))
-# What is wrong as one of three prices.
-NO_PRICES = (-1, 10 ** 6 + 1, 10 ** 59, True, False, None, "1", (1,), [1], b"1", {})
-
-
-def lots(many):
-    """All lots of numbers below many, those of fewer ones first."""
-    return [lot for size in range(many + 1) for lot in itertools.combinations(range(many), size)]
 
 
 def is_enough(hall, aim, lot):

@@ -34,16 +34,27 @@ def sure_cases(couples, flags, aid):
     return found
 
 
+def enough_flags(couples, aim, many):
+    """For each lot of many boards, by its bits, whether a pairing of some pairs within it is sure of an aim."""
+    found = sure_cases(couples, reached_flags(aim, many), 0)
+    flags = []
+    for case in range(1 << many):
+        flags.append(case in found or has_less(flags, case, many))
+    return flags
+
+
+def least_left(flags, many):
+    """The ascending list of the least lots without which nothing is left that is enough, as flags tell of the bits."""
+    # The lot of all others has the bits the other way round, so what is left without a lot stands mirrored.
+    return minimal_lots([not flag for flag in flags[::-1]], many)
+
+
 def enough(hall, aim):
     """The ascending list of the least lots of boards within which a pairing is sure of an aim."""
     check_aim(hall, aim)
     check_few_boards(hall)
     many = len(hall.boards)
-    found = sure_cases(pairs(hall), reached_flags(aim, many), 0)
-    flags = []
-    for case in range(1 << many):
-        flags.append(case in found or has_less(flags, case, many))
-    return minimal_lots(flags, many)
+    return minimal_lots(enough_flags(pairs(hall), aim, many), many)
 
 
 def check_prices(hall, prices):
@@ -82,8 +93,7 @@ def bars(hall, aim):
     for case in range(1 << many):
         chosen = [couple for at, couple in enumerate(couples) if case >> at & 1]
         flags.append(has_less(flags, case, many) or is_sure_of(hall, aim, chosen))
-    # The set of all others has the bits the other way round, so what is left if a set is barred stands mirrored.
-    return minimal_lots([not flag for flag in flags[::-1]], many)
+    return least_left(flags, many)
 
 
 def exchanged(hall, case):

@@ -7,15 +7,15 @@ from untoldgames.kinds import MOST_WORDS, is_within, is_word
 from untoldgames.played import begun_rows, is_turn, known_rows
 
 
-def has_item_form(hall, thing):
-    """Tells whether a thing has the form of an item of a log of a hall."""
+def has_item_form(thing, many):
+    """Tells whether a thing has the form of an item of a log, with one of many boards."""
     if not isinstance(thing, tuple) or len(thing) not in (3, 4):
         return False
     if len(thing) == 3 and thing[0] != "answered":
         return False
     if len(thing) == 4 and not (thing[0] == "said" and isinstance(thing[3], bool)):
         return False
-    return is_within(thing[1], 0, len(hall.boards) - 1) and is_word(thing[2])
+    return is_within(thing[1], 0, many - 1) and is_word(thing[2])
 
 
 def was_let(item):
@@ -25,7 +25,7 @@ def was_let(item):
 
 def can_follow(hall, rows, thing):
     """Tells whether a thing is an item that a log can have behind what led to these rows."""
-    if not has_item_form(hall, thing):
+    if not has_item_form(thing, len(hall.boards)):
         return False
     row = rows[thing[1]]
     if is_turn(hall.boards[thing[1]], row) != (thing[0] == "said"):
