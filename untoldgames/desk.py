@@ -128,7 +128,7 @@ class Desk:
         words = words_of(line)
         if words[0] == "hall":
             hall = read_hall(words[2].replace("|", "\n"))
-            return self._replace({**self._halls, words[1]: hall})
+            return self._keep({**self._halls, words[1]: hall})
         if words[0] == "keys":
             return spaced(sorted(self._halls), "none")
         if words[0] == "undo":
@@ -136,14 +136,14 @@ class Desk:
         if words[1] not in self._halls:
             raise NoKey(words[1])
         if words[0] == "drop":
-            return self._replace({key: self._halls[key] for key in self._halls if key != words[1]})
+            return self._keep({key: self._halls[key] for key in self._halls if key != words[1]})
         return told_of(self._halls[words[1]], words)
 
     def undoable(self):
         """How many lines can be taken back."""
         return len(self._past)
 
-    def _replace(self, halls):
+    def _keep(self, halls):
         """Keeps other halls from now on, so that it can be taken back."""
         self._past.append(self._halls)
         self._halls = halls
