@@ -218,6 +218,14 @@ class ReadAim(Case):
             if not isinstance(thing, str):
                 self.raises("NoText", {}, read_aim, thing)
 
+    def test_each_sign(self):
+        for sign in map(chr, [9, 10, *range(32, 127)]):
+            if sign not in "0123456789":
+                for text in (sign, "1" + sign, sign + "1", f"all(1{sign})", f"least 1{sign}(0)", f"all(0{sign}1)"):
+                    if text != "all(0,1)":
+                        self.raises("NoText", {}, read_aim, text)
+                self.raises("BadText", {"line": 1}, read_log, f"said 1{sign} a yes\n")
+
     def test_bounds(self):
         for inmost, least in (("0", 0), ("all()", ("all", ()))):
             deep = "all(" * 7 + inmost + ")" * 7
